@@ -1,0 +1,1 @@
+"""Prefixtable: tables that replace the beginnings of endless digit streams."""

@@ -1,0 +1,1 @@
+"""Words, prefixes and streams."""
