@@ -3,6 +3,7 @@
 import copy
 import unittest
 
+from prefixtable.base.streams import make_stream
 from prefixtable.errors import InvalidNumber, NotTaken, PrefixError, TooMany
 
 OTHER_VALUES = [
@@ -80,6 +81,113 @@ def all_streams(base, roots, most_head, most_period):
     return [stream for stream in told if plain_stream(base, 5000, stream)]
 
 
+def plain_code(base, roots, value):
+    """Tell by the definition whether a value is a code; the words in it must be short."""
+    if not isinstance(value, tuple) or not all(plain_prefix(base, roots, prefix) for prefix in value):
+        return False
+    if any(one >= other for one, other in zip(value, value[1:])):
+        return False
+    depth = max([len(word) for _, word in value] + [0])
+    rows = [word for word in all_words(base, depth) if len(word) == depth]
+    return all(sum(1 for prefix in value if prefix[0] == root and row.startswith(prefix[1])) == 1
+               for root in range(roots) for row in rows)
+
+
+def plain_inner(code):
+    """Return the inner nodes of a code by the definition."""
+    return tuple(sorted({(root, word[:size]) for root, word in code for size in range(len(word))}))
+
+
+def plain_codes(base, roots, size):
+    """Return all codes with so many prefixes, ascending, by expanding in all ways."""
+    found = {tuple((root, "") for root in range(roots))}
+    for _ in range(size):
+        wider = {tuple(sorted(code[:at] + code[at + 1:] + tuple((root, word + digit) for digit in "01234"[:base])))
+                 for code in found for at, (root, word) in enumerate(code) if len(code) < size}
+        found = found | wider
+    return sorted(code for code in found if len(code) == size)
+
+
+def chance_code(chance, base, roots, steps):
+    """Return a code that is reached by so many expansions at places that a generator of chances tells."""
+    code = [(root, "") for root in range(roots)]
+    for _ in range(steps):
+        root, word = code.pop(chance.randrange(len(code)))
+        code.extend((root, word + digit) for digit in "01234"[:base])
+    return tuple(sorted(code))
+
+
+def chance_rows(chance, base, left_roots, right_roots, size):
+    """Return rows of some table, in any order, about so many; the difference of the roots must fit the base."""
+    most = max(left_roots, right_roots, size)
+    while (most - left_roots) % (base - 1) or (most - right_roots) % (base - 1):
+        most += 1
+    left = list(chance_code(chance, base, left_roots, (most - left_roots) // (base - 1)))
+    right = list(chance_code(chance, base, right_roots, (most - right_roots) // (base - 1)))
+    chance.shuffle(left)
+    chance.shuffle(right)
+    return tuple(zip(left, right))
+
+
+def chance_family(chance, many):
+    """Return so many triples of a base, numbers of left and right roots with which tables exist."""
+    found = []
+    while len(found) < many:
+        base, left, right = chance.randrange(2, 6), chance.randrange(1, 5), chance.randrange(1, 5)
+        if (left - right) % (base - 1) == 0:
+            found.append((base, left, right))
+    return found
+
+
+def plain_image(rows, stream):
+    """Return the image of a stream under rows by the definition."""
+    root, head, period = stream
+    for (left_root, left), (right_root, right) in rows:
+        told = plain_beginning(stream, len(left))
+        if left_root == root and told == left:
+            rest = head + period * (len(left) + 1)
+            return make_stream(5, right_root, right + rest[len(left):], period)
+    raise AssertionError("no row begins the stream")
+
+
+def plain_least(base, rows):
+    """Return the least rows by contracting one family after another, as long as there is one."""
+    rows = dict(rows)
+    again = True
+    while again:
+        again = False
+        for (root, word), (other_root, other_word) in list(rows.items()):
+            upper, other = (root, word[:-1]), (other_root, other_word[:-1])
+            family = [((root, word[:-1] + digit), (other_root, other_word[:-1] + digit)) for digit in "01234"[:base]]
+            if word and other_word and all(rows.get(left) == right for left, right in family):
+                for left, _ in family:
+                    del rows[left]
+                rows[upper] = other
+                again = True
+                break
+    return tuple(sorted(rows.items()))
+
+
+def chance_streams(chance, base, roots, many):
+    """Return so many streams with short heads and periods."""
+    def word(size):
+        return "".join(chance.choice("01234"[:base]) for _ in range(size))
+    return [make_stream(base, chance.randrange(roots), word(chance.randrange(8)), word(chance.randrange(1, 6)))
+            for _ in range(many)]
+
+
+KEEPS_NOTHING = object()
+
+
+def flat(value):
+    """Return all values inside of a value."""
+    if isinstance(value, dict):
+        return flat(list(value) + list(value.values()))
+    if isinstance(value, (tuple, list)):
+        return [part for item in value for part in flat(item)]
+    return [value]
+
+
 class Case(unittest.TestCase):
     """A test case that can ask for an error with its value."""
 
@@ -96,15 +204,3 @@ class Case(unittest.TestCase):
             self.assertIs(told[0].__class__, value.__class__)
         if not any(isinstance(part, Exception) for part in flat(before)):
             self.assertEqual(before, [part for part in parts if isinstance(part, (tuple, list, dict))])
-
-
-KEEPS_NOTHING = object()
-
-
-def flat(value):
-    """Return all values inside of a value."""
-    if isinstance(value, dict):
-        return flat(list(value) + list(value.values()))
-    if isinstance(value, (tuple, list)):
-        return [part for item in value for part in flat(item)]
-    return [value]

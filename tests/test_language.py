@@ -10,17 +10,21 @@ import unittest
 
 PACKAGE = pathlib.Path(__file__).resolve().parent.parent / "prefixtable"
 LIBRARY = {"heapq": {"heappush", "heappop", "heapify"}, "math": {"gcd", "lcm", "isqrt", "comb", "perm", "factorial"}}
-BUILTINS = set("""len range enumerate zip min max sum abs sorted reversed int str bool list tuple dict set isinstance ord
-repr any all divmod super property staticmethod classmethod ValueError TypeError KeyError IndexError LookupError
-OverflowError RuntimeError NotImplemented""".split())
-METHODS = set("""append clear copy count endswith extend find get index insert isdigit items join keys ljust lower lstrip
+BUILTINS = set("""
+len range enumerate zip min max sum abs sorted reversed int str bool list tuple dict set isinstance ord repr any all
+divmod super property staticmethod classmethod ValueError TypeError KeyError IndexError LookupError OverflowError
+RuntimeError NotImplemented""".split())
+METHODS = set("""
+append clear copy count endswith extend find get index insert isdigit items join keys ljust lower lstrip
 partition pop remove replace reverse rfind rjust rpartition rsplit rstrip setdefault split splitlines startswith strip
 update upper values zfill bit_length isascii removeprefix removesuffix rindex isprintable""".split())
-SPECIAL = set("""__init__ __eq__ __repr__ __str__ __len__ __enter__ __exit__ __call__ __iter__ __mul__ __pow__ __invert__
+SPECIAL = set("""
+__init__ __eq__ __repr__ __str__ __len__ __enter__ __exit__ __call__ __iter__ __mul__ __pow__ __invert__
 __bool__ __contains__ __getitem__ __setitem__ __and__ __or__ __sub__ __add__""".split())
 BARRED_WORDS = """type typing typing_extensions enum Enum IntEnum StrEnum Flag IntFlag Generic Protocol ABC ABCMeta
 namedtuple NamedTuple TypedDict TYPE_CHECKING abstractmethod""".split()
-BARRED_NAMES = set("""mro elements open input law version_info with_traceback add_note register eval exec compile dir vars
+BARRED_NAMES = set("""
+mro elements open input law version_info with_traceback add_note register eval exec compile dir vars
 globals locals type help id exit quit os gc sys getattr setattr hasattr delattr""".split())
 ITERATED = {"zip", "enumerate", "reversed", "items", "keys", "values"}
 TAKERS = {"list", "tuple", "dict", "sorted", "sum", "any", "all", "enumerate", "zip", "min", "max"}
@@ -115,7 +119,8 @@ class NamesTest(unittest.TestCase):
             top = [name for row in tree.body for name in bound_by(row)]
             top = top + [item.name for row in tree.body if isinstance(row, ast.ImportFrom) for item in row.names]
             self.assertEqual(len(set(top)), len(top), path)
-            given = [node.id for node in ast.walk(tree) if isinstance(node, ast.Name) and isinstance(node.ctx, ast.Store)]
+            names = [node for node in ast.walk(tree) if isinstance(node, ast.Name)]
+            given = [node.id for node in names if isinstance(node.ctx, ast.Store)]
             given = given + [node.arg for node in ast.walk(tree) if isinstance(node, ast.arg)]
             local = [name for name in given if not name.isupper()]
             for name in local + top:

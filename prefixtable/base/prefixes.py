@@ -1,0 +1,67 @@
+"""Prefixes that are known to be right: how they lie to one another, and their texts."""
+
+from prefixtable.base.words import DIGITS
+
+
+def is_above(upper, lower):
+    """Return whether a prefix is above another one; each prefix is above itself."""
+    return upper[0] == lower[0] and lower[1].startswith(upper[1])
+
+
+def are_apart(one, other):
+    """Return whether neither prefix is above the other one."""
+    return not is_above(one, other) and not is_above(other, one)
+
+
+def longer(prefix, word):
+    """Return the prefix with a word put behind its word."""
+    return prefix[0], prefix[1] + word
+
+
+def behind(upper, lower):
+    """Return the word that leads from a prefix to one that it is above."""
+    return lower[1][len(upper[1]):]
+
+
+def moved(prefix, old, new):
+    """Return a prefix with the prefix new in the place of old, which is above it."""
+    return longer(new, behind(old, prefix))
+
+
+def children(base, prefix):
+    """Return the prefixes with one more digit, ascending."""
+    return [longer(prefix, digit) for digit in DIGITS[:base]]
+
+
+def other_digit(word):
+    """Return a digit with which the word does not begin."""
+    return "1" if word.startswith("0") else "0"
+
+
+def lowest(prefixes):
+    """Return those prefixes that are above no other one, ascending."""
+    row = sorted(set(prefixes))
+    # What lies below a prefix comes right behind it in this order.
+    kept = [upper for upper, lower in zip(row, row[1:]) if not is_above(upper, lower)]
+    return tuple(kept + row[-1:])
+
+
+def highest(prefixes):
+    """Return those prefixes that no other one is above, ascending."""
+    kept = []
+    for prefix in sorted(set(prefixes)):
+        if not kept or not is_above(kept[-1], prefix):
+            kept.append(prefix)
+    return tuple(kept)
+
+
+def all_apart(prefixes):
+    """Return whether each two of the prefixes are apart; none is then given twice."""
+    row = sorted(prefixes)
+    return not any([is_above(upper, lower) for upper, lower in zip(row, row[1:])])
+
+
+def prefix_text(prefix):
+    """Return the text of a prefix, like 0:011 or 2:-."""
+    root, word = prefix
+    return f"{root}:{word or '-'}"

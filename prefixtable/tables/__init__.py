@@ -1,0 +1,1 @@
+"""Tables, how they are built, and of which kinds they are."""
