@@ -4,7 +4,6 @@ import itertools
 import random
 import unittest
 
-from prefixtable.base.codes import code_through
 from prefixtable.base.streams import make_stream
 from prefixtable.errors import InvalidCode, InvalidNumber, InvalidOperation, InvalidPrefix, InvalidTable, TooMany
 from prefixtable.tables.building import (
@@ -375,9 +374,13 @@ class SignTest(Case):
             self.check_error(InvalidTable, KEEPS_NOTHING, sign, value)
         for table in (F, SPLIT, Table.identity(4)):
             self.check_error(InvalidOperation, KEEPS_NOTHING, sign, table)
-        self.assertEqual(swap(2, 1, (0, "0"), (0, "1")),
-                         swap(2, 1, (0, "00"), (0, "10")) * swap(2, 1, (0, "01"), (0, "11")))
-        self.assertEqual(len(code_through(2, 1, (0, "0"))), 2)
+
+    def test_a_swap_is_the_product_of_the_swaps_of_its_children(self):
+        for base in (2, 3, 4, 5):
+            product = Table.identity(base)
+            for digit in "01234"[:base]:
+                product = swap(base, 1, (0, "0" + digit), (0, "1" + digit)) * product
+            self.assertEqual(product, swap(base, 1, (0, "0"), (0, "1")))
 
 
 if __name__ == "__main__":
