@@ -55,6 +55,40 @@ def highest(prefixes):
     return tuple(kept)
 
 
+def shared(one, other):
+    """Return the prefixes of either row that are below one of the other row, ascending; each row is apart in itself."""
+    found = []
+    upper = None
+    for prefix in sorted(one + other):
+        # A row is apart in itself, so what is below a prefix is of the other row, and comes right behind it.
+        if upper is not None and is_above(upper, prefix):
+            found.append(prefix)
+        else:
+            upper = prefix
+    return tuple(found)
+
+
+def last_not_behind(row, bound):
+    """Return the last item of an ascending row that is not behind the bound, or the first item if all are."""
+    low = 0
+    high = len(row)
+    while high - low > 1:
+        middle = (low + high) // 2
+        if row[middle] <= bound:
+            low = middle
+        else:
+            high = middle
+    return row[low]
+
+
+def one_above(prefixes, prefix):
+    """Return the one of ascending prefixes, apart from one another, that is above a prefix, or None."""
+    if len(prefixes) == 0:
+        return None
+    upper = last_not_behind(prefixes, prefix)
+    return upper if is_above(upper, prefix) else None
+
+
 def all_apart(prefixes):
     """Return whether each two of the prefixes are apart; none is then given twice."""
     row = sorted(prefixes)

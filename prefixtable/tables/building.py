@@ -4,9 +4,9 @@ from prefixtable.base.codes import (
     MAX_ROWS, code_through_all, nodes_inside, require_code, require_prefixes, root_code)
 from prefixtable.base.prefixes import all_apart, are_apart, behind, is_above, longer, moved
 from prefixtable.base.words import DIGITS, has_prefix_form, require_base, require_prefix, require_roots
-from prefixtable.errors import InvalidOperation, InvalidTable, TooMany
+from prefixtable.errors import InvalidOperation, InvalidTable
 from prefixtable.tables.rows import least_rows
-from prefixtable.tables.table import Table, require_square, require_table
+from prefixtable.tables.table import Table, require_rows, require_square, require_table
 
 MAX_SWAPS = 200
 SMALL_ROWS = 9
@@ -98,8 +98,7 @@ def in_order(base, left, right):
 def swaps_of(table):
     """Return any list of swaps whose product is a small table."""
     require_square(table)
-    if len(table) > SMALL_ROWS:
-        raise TooMany(SMALL_ROWS)
+    require_rows(SMALL_ROWS, table)
     reshaping = swaps_between(table.left_code, table.right_code)
     images = {after_swaps(left, reshaping): right for left, right in table.rows}
     return tuple(reshaping + swaps_of_permutation(images))

@@ -1,7 +1,8 @@
 """Rows (left, right) of prefixes, in tuples and lists of any length: least rows, products, inverses."""
 
 from prefixtable.base.codes import covers
-from prefixtable.base.prefixes import is_above, longer, lowest, moved, prefix_text
+from prefixtable.base.prefixes import is_above, last_not_behind, longer, lowest, moved, prefix_text
+from prefixtable.base.streams import leading_word, with_beginning
 from prefixtable.base.words import DIGITS, MAX_ROOTS, has_prefix_form
 
 
@@ -48,26 +49,37 @@ def is_family(base, rows):
 
 def row_above(rows, prefix):
     """Return the row whose left prefix is above a prefix, or None; the rows are ascending."""
-    low = 0
-    high = len(rows)
-    while high - low > 1:
-        middle = (low + high) // 2
-        if rows[middle][0] <= prefix:
-            low = middle
-        else:
-            high = middle
-    return rows[low] if is_above(rows[low][0], prefix) else None
+    # No right prefix has so great a root, so the bound is behind the row with just this left prefix.
+    row = last_not_behind(rows, (prefix, (MAX_ROOTS, "")))
+    return row if is_above(row[0], prefix) else None
 
 
-def spread_rows(rows, code):
-    """Return the rows of the same map with the left prefixes of a code that refines the left one."""
+def row_of_stream(rows, stream):
+    """Return the row of a table with whose left prefix a stream begins."""
+    # No left prefix has as many digits as there are rows.
+    return row_above(rows, (stream[0], leading_word(stream, len(rows))))
+
+
+def image_of_stream(rows, stream):
+    """Return the stream to which a table with these rows takes a stream."""
+    left, right = row_of_stream(rows, stream)
+    return with_beginning(stream, left, right)
+
+
+def spread_rows(rows, prefixes):
+    """Return the rows of the same map with these left prefixes, ascending, each of which is below one of the rows."""
     found = []
     at = 0
-    for prefix in code:
-        if not is_above(rows[at][0], prefix):
+    for prefix in prefixes:
+        while not is_above(rows[at][0], prefix):
             at += 1
         found.append((prefix, moved(prefix, rows[at][0], rows[at][1])))
     return found
+
+
+def lefts_of(rows):
+    """Return the left prefixes of rows."""
+    return tuple([left for left, _ in rows])
 
 
 def inverse_rows(rows):

@@ -3,11 +3,12 @@
 from prefixtable.base.codes import has_code_form, is_finer, root_code
 from prefixtable.base.integers import require_number
 from prefixtable.base.prefixes import behind, is_above, lowest, moved, other_digit
-from prefixtable.base.streams import leading_word, normal_stream, require_stream, with_beginning
+from prefixtable.base.streams import normal_stream, require_stream
 from prefixtable.base.words import has_prefix_form, require_base, require_prefix
 from prefixtable.errors import InvalidCode, InvalidOperation, InvalidTable, NotTaken, TooMany
 from prefixtable.tables.rows import (
-    are_table_rows, inverse_rows, least_rows, product_rows, row_above, rows_text, spread_rows)
+    are_table_rows, image_of_stream, inverse_rows, least_rows, lefts_of, product_rows, row_above, rows_text,
+    spread_rows)
 
 
 class Table:
@@ -63,7 +64,7 @@ class Table:
     @property
     def left_code(self):
         """The left prefixes of the least rows, ascending."""
-        return tuple([left for left, _ in self._rows])
+        return lefts_of(self._rows)
 
     @property
     def right_code(self):
@@ -95,9 +96,7 @@ class Table:
 
     def __call__(self, stream):
         require_stream(self._base, self.left_roots, stream)
-        # No left prefix has as many digits as there are rows.
-        row = row_above(self._rows, (stream[0], leading_word(stream, len(self._rows))))
-        return with_beginning(stream, row[0], row[1])
+        return image_of_stream(self._rows, stream)
 
     def over(self, code):
         """Yield the rows with the prefixes of a code that refines the left one, in their order."""
@@ -166,6 +165,12 @@ def require_square(table):
     require_table(table)
     if not table.is_square:
         raise InvalidOperation("the table is not square")
+
+
+def require_rows(most, table):
+    """Raise TooMany if a table has more least rows than this."""
+    if len(table) > most:
+        raise TooMany(most)
 
 
 def difference(first, second):

@@ -1,0 +1,1 @@
+"""Orders of small tables, and what becomes of single streams."""

@@ -1,0 +1,1 @@
+"""Sets of streams that are told by their beginnings."""
