@@ -1,0 +1,1 @@
+"""Closed graphs of tables, the moves that reduce them, and their matchings."""
