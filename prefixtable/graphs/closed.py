@@ -14,18 +14,26 @@ def closed_graph(table):
     """Return the closed graph of a drawn table."""
     require_square(table)
     require_rows(MAX_DRAWN, table)
+    return graph_of(table)
+
+
+def graph_of(table):
+    """Return the closed graph of a square table of any size."""
+    ways, circles = ways_and_circles(table)
+    nodes = sorted(set([source for source, _, _, _, _ in ways]))
+    edges = [(source, door, target, entry, len(roots)) for source, door, target, entry, roots in ways]
+    lengths = sorted([len(circle) for circle in circles])
+    loops = [(length, lengths.count(length)) for length in sorted(set(lengths))]
+    return table.base, tuple(nodes), tuple(sorted(edges)), tuple(loops)
+
+
+def ways_and_circles(table):
+    """Return a list of what ways_of tells of a square table, and one of the circles of the roots of no edge."""
     splits = {prefix: True for prefix in nodes_inside(table.left_code)}
-    merges = nodes_inside(table.right_code)
     images = {left: right for left, right in table.rows}
-    edges = []
-    passed = {}
-    for source, door, target, entry, roots in ways_of(table.base, splits, merges, images):
-        edges.append((source, door, target, entry, len(roots)))
-        for root in roots:
-            passed[root] = True
-    nodes = [("merge", prefix) for prefix in merges] + [("split", prefix) for prefix in splits]
-    loops = loops_of(images, [root for root in range(table.left_roots) if root not in passed])
-    return table.base, tuple(nodes), tuple(sorted(edges)), loops
+    ways = ways_of(table.base, splits, nodes_inside(table.right_code), images)
+    passed = {root: True for _, _, _, _, roots in ways for root in roots}
+    return ways, circles_of_roots(images, [root for root in range(table.left_roots) if root not in passed])
 
 
 def ways_of(base, splits, merges, images):
@@ -53,20 +61,20 @@ def way_from(splits, images, start):
     return ("merge", (root, word[:-1])), int(word[-1]), roots
 
 
-def loops_of(images, roots):
-    """Return the loops of roots each of which leads to another one of them as a whole."""
-    counts = {}
+def circles_of_roots(images, roots):
+    """Return the circles of roots each of which leads to another one of them as a whole, as lists."""
+    found = []
     done = {}
     for first in roots:
-        length = 0
+        circle = []
         at = first
         while at not in done:
             done[at] = True
-            length += 1
+            circle.append(at)
             at = images[at, ""][0]
-        if length > 0:
-            counts[length] = counts.get(length, 0) + 1
-    return tuple(sorted(counts.items()))
+        if circle:
+            found.append(circle)
+    return found
 
 
 def is_graph(value):

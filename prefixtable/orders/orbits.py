@@ -137,6 +137,11 @@ def cycle_of_stream(rows, stream):
 def exponent(table, first, second):
     """Return the exponent of a power that takes the first stream to the second one, or None if there is none."""
     require_orbit(table, first, second)
+    return exponent_of(table, first, second)
+
+
+def exponent_of(table, first, second):
+    """Return the same as exponent for a table and streams that are known to be right."""
     one = certificate_of(table, first)
     if one[0] == "returns":
         cycle = cycle_of_stream(table.rows, first)

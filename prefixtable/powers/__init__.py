@@ -1,0 +1,1 @@
+"""Powers of tables, and products that are told by texts."""

@@ -1,0 +1,1 @@
+"""Recodings between tables, and the reduced tables to which they lead."""
