@@ -146,9 +146,23 @@ class NamesTest(unittest.TestCase):
             if node.name.startswith("__"):
                 self.assertIn(node.name, SPECIAL, path)
             for mark in node.decorator_list:
-                self.assertIn(ast.unparse(mark), ("property", "staticmethod", "classmethod"), path)
+                allowed = ("property", "staticmethod", "classmethod", node.name + ".setter")
+                self.assertIn(ast.unparse(mark), allowed, path)
         for path, node in every(ast.ClassDef):
             self.assertEqual(node.decorator_list, [], path)
+            rows = [row for row in node.body if isinstance(row, ast.FunctionDef)]
+            names = [row.name for row in rows if not any("setter" in ast.unparse(mark) for mark in row.decorator_list)]
+            self.assertEqual(len(set(names)), len(names), (path, node.name))
+
+    def test_attributes_are_no_methods(self):
+        stored = {node.attr for _, node in every(ast.Attribute) if isinstance(node.ctx, ast.Store)} - {"row_limit"}
+        methods = {row.name for _, node in every(ast.ClassDef) for row in node.body if isinstance(row, ast.FunctionDef)}
+        self.assertEqual(stored & methods, set())
+        self.assertEqual(stored & {"items", "keys", "values", "pop", "update", "append", "sort", "args", "format"}, set())
+        read = {node.attr for _, node in every(ast.Attribute) if isinstance(node.ctx, ast.Load)}
+        classes = {target.id for _, node in every(ast.ClassDef) for row in node.body if isinstance(row, ast.Assign)
+                   for target in row.targets}
+        self.assertEqual(read - stored - methods - classes - METHODS - {"setter", "__init__"}, set())
 
     def test_generators_have_names_of_their_own(self):
         names = [node.name for _, node in every(ast.FunctionDef)]
@@ -201,6 +215,17 @@ class ExpressionsTest(unittest.TestCase):
             if isinstance(node.func, ast.Name) and node.func.id in BUILTINS:
                 told = {word.arg for word in node.keywords}
                 self.assertLessEqual(told, allowed.get(node.func.id, set()), (path, node.lineno))
+
+    def test_finally_and_exit_put_back_plainly(self):
+        plain = (ast.Name, ast.Attribute)
+        blocks = [(path, node.finalbody) for path, node in every(ast.Try)]
+        blocks += [(path, node.body) for path, node in every(ast.FunctionDef) if node.name == "__exit__"]
+        for path, block in blocks:
+            for row in block:
+                self.assertIsInstance(row, ast.Assign, path)
+                self.assertTrue(all(isinstance(part, plain) for part in row.targets + [row.value]), path)
+        for path, node in every(ast.ExceptHandler):
+            self.fail((path, node.lineno))
 
     def test_raise_creates_its_error(self):
         for path, node in every(ast.Raise):

@@ -1,0 +1,1 @@
+"""Formulas, and a desk that keeps tables, formulas and questions."""
