@@ -74,7 +74,7 @@ class MakingTest(DeskCase):
     def test_new_desks(self):
         desk = Desk(3, roots=2)
         self.assertEqual(state_of(desk), ((), {}, {}, 60, (), [], "desk of base 3: 0 names, 0 groups", [], 0))
-        self.assertEqual(Desk(2, row_limit=7).row_limit, 7)
+        self.assertEqual([Desk(2, row_limit=limit).row_limit for limit in (1, 7, 60)], [1, 7, 60])
         self.assertEqual(Desk.LARGEST, 60)
         self.assertEqual(desk.LARGEST, 60)
         self.assertEqual(str(some_desk()), "desk of base 2: 5 names, 2 groups")

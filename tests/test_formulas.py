@@ -155,6 +155,10 @@ class FormTest(Case):
                 self.check_error(ParseError, KEEPS_NOTHING, parse_formula, plain_text(value))
         for value in (("product", ("product", A, B), A), ("product", A, ("product", A, B))):
             self.assertIs(is_formula(value), False)
+        value = A
+        for _ in range(7):
+            value = ("product",) + (value,) * 12
+        self.assertIs(is_formula(value), False)
         self.assertIs(is_formula(("product", A, ("power", ("product", A, B), 1))), True)
 
     def test_exponents(self):
@@ -196,7 +200,7 @@ class FormTest(Case):
                  "a * (b * a)", "(a * b", "a * b)", "((a * b) ** 2", "((a * b)) ** 2", "(a ** 2) * b", "a * (b ** 2)",
                  "~((a ** 2))", "a\n", "a * b\n", "\na", "a\t* b", "A", "a1", "abcdefghi", "a * Id", "ID", "()", "~()",
                  "(", ")", "a()", "1", "2 ** a", "a ** b", "a ** id", "a ** (2)", "a / b", "a + b", "\u00e9", "a ** \u00b2",
-                 "a ** 1_0", "a ** \u0663", "(" * 300, "~" * 300, "~" * 299 + "a", "(" * 100 + "a" + ")" * 100,
+                 "a ** 1_0", "a ** \u0663", "(" * 300, "~" * 300, "~" * 5000, "(" * 5000, "~(" * 5000, "~" * 299 + "a", "(" * 100 + "a" + ")" * 100,
                  "a" * 300, "a ** " + "9" * 290, "a * " * 70 + "a", "a ** 2" * 50]
         for text in texts:
             self.check_error(ParseError, KEEPS_NOTHING, parse_formula, text)

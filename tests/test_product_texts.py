@@ -149,6 +149,8 @@ class RelationsTest(Case):
                 backwards = [" ".join(letter[1:] if letter[0] == "~" else "~" + letter
                                       for letter in text.split()[::-1]) for text in told]
                 self.assertEqual(sorted(backwards), told)
+        told = list(relations({"c": FLIP, "a": FLIP, "b": FLIP}, 2))
+        self.assertEqual([told, len(told)], [sorted(told), 30])
         self.assertEqual(list(relations({"a": F}, 0)), [""])
         self.assertEqual(list(relations({"a": F}, 60)), [" ".join(["a"] * 60), " ".join(["~a"] * 60)])
         self.assertEqual(list(relations({"a": G}, 60)), [])
@@ -179,7 +181,7 @@ class ShortestTextTest(Case):
         self.assertEqual(shortest_text(G ** 6 * F, {"g": G, "f": F}, 7), "g g g g g g f")
         self.assertEqual(shortest_text(G ** 60, {"g": G}, 60), " ".join(["g"] * 60))
         self.assertEqual(shortest_text(FLIP, {"a": F, "h": FLIP}, 5), "h")
-        self.assertEqual(shortest_text(FLIP, {"a": FLIP, "h": FLIP}, 5), "a")
+        self.assertEqual(shortest_text(FLIP, {"h": FLIP, "a": FLIP}, 5), "a")
 
     def test_targets_that_no_text_has(self):
         for target in (LONG, TEN, SIXTY_ONE, shuffled(5000)):

@@ -111,7 +111,7 @@ class RootsTest(Case):
                 self.check_error(InvalidNumber, root, root_expansion, 3, 3, root)
         for root in (-1, 3, 4, 4999, True, False, "0", None, (0,)):
             self.check_error(InvalidNumber, root, root_expansion, 2, 3, root)
-        wrong = [(0,), (0, 1, 2), (0, 0), (0, 4), (-1, 0), (0, True), (False, 1), [0, 1], (0, "1"), (0, None), "01",
+        wrong = [(0,), (0, 1, 2), (0, 0), (0, 1, 1), (0, 4), (-1, 0), (0, True), (False, 1), [0, 1], (0, "1"), (0, None), "01",
                  (0, (1,)), (0, [1]), (0, {}), {0: 1, 1: 0}, (F, G)]
         for chosen in OTHER_VALUES + wrong:
             self.check_error(InvalidNumber, chosen, root_gathering, 2, 4, chosen)

@@ -38,7 +38,12 @@ def has_formula_form(value, room):
                 and has_formula_form(value[1], room - 1))
     if kind != "product" or not MIN_FACTORS <= len(value) - 1 <= MAX_FACTORS:
         return False
-    return all([has_formula_form(part, room - 1) and part[0] != "product" for part in value[1:]])
+    return all([not is_product(part) and has_formula_form(part, room - 1) for part in value[1:]])
+
+
+def is_product(value):
+    """Return whether the value has the word of a product."""
+    return isinstance(value, tuple) and value[:1] == ("product",)
 
 
 def require_formula(formula):

