@@ -117,12 +117,12 @@ class Reader:
 
     def product(self, room):
         """Read a formula in which signs of inverses and parentheses are nested less than so deep."""
-        parts = [self.power(room)]
+        parts = [self.factor(room)]
         while self.skips(" * "):
-            parts.append(self.power(room))
+            parts.append(self.factor(room))
         return parts[0] if len(parts) == 1 else ("product", *parts)
 
-    def power(self, room):
+    def factor(self, room):
         """Read a formula that is no product."""
         found = self.single(room)
         if not self.skips(" ** "):
